@@ -1,0 +1,1 @@
+"""Meldhouse: hands of tiles laid out in runs and groups."""

@@ -1,6 +1,6 @@
 """Houses of tiles, and the hands that are drawn from them."""
 
-from meldhouse.errors import BadHouse
+from meldhouse.errors import BadHand, BadHouse
 
 LEAST_NUMBERS = 3
 MOST_NUMBERS = 13
@@ -26,8 +26,15 @@ def is_tile(house, tile):
     return 1 <= tile[0] <= house.most and 0 <= tile[1] < house.colours
 
 
-def is_in_order(tiles):
-    return all([tiles[k - 1] <= tiles[k] for k in range(1, len(tiles))])
+def all_tiles(house):
+    found = []
+    for number in range(1, house.most + 1):
+        found.extend([(number, colour) for colour in range(house.colours)])
+    return found
+
+
+def is_in_order(row):
+    return all([row[k - 1] <= row[k] for k in range(1, len(row))])
 
 
 def is_hand(house, hand, jokers):
@@ -36,3 +43,8 @@ def is_hand(house, hand, jokers):
     if not all([is_tile(house, tile) and hand.count(tile) <= MOST_ALIKE for tile in hand]):
         return False
     return is_in_order(hand)
+
+
+def check_hand(house, hand, jokers):
+    if not is_hand(house, hand, jokers):
+        raise BadHand("this is no hand of the house with 0 to 2 jokers")

@@ -100,6 +100,46 @@ class Form(unittest.TestCase):
         for place, node in self.nodes(ast.arg):
             self.assertFalse(hasattr(builtins, node.arg), place)
 
+    def test_names_are_drawn_from_the_file_that_defines_them(self):
+        for place, node in self.nodes(ast.ImportFrom):
+            defined = self.names_at_the_top(node.module.split(".")[1] + ".py")
+            for alias in node.names:
+                self.assertIn(alias.name, defined, place)
+                self.assertIsNone(alias.asname, place)
+
+    def names_at_the_top(self, name):
+        body = self.trees[name].body
+        named = [node.name for node in body if isinstance(node, (ast.FunctionDef, ast.ClassDef))]
+        return named + [target.id for node in body if isinstance(node, ast.Assign) for target in node.targets]
+
+    def test_no_two_files_draw_from_one_another(self):
+        drawn = {name: set() for name in self.trees}
+        for place, node in self.nodes(ast.ImportFrom):
+            drawn[place.split(":")[0]].add(node.module.split(".")[1] + ".py")
+        while drawn:
+            free = [name for name in drawn if not drawn[name] & set(drawn)]
+            self.assertTrue(free, sorted(drawn))
+            for name in free:
+                del drawn[name]
+
+    def test_no_local_is_called_like_an_import_or_a_name_of_the_top(self):
+        for name, tree in self.trees.items():
+            taken = set(self.names_at_the_top(name))
+            taken |= {alias.name for node in tree.body if isinstance(node, ast.ImportFrom) for alias in node.names}
+            for function in ast.walk(tree):
+                if isinstance(function, ast.FunctionDef):
+                    for node in ast.walk(function):
+                        if isinstance(node, ast.arg):
+                            self.assertNotIn(node.arg, taken, name)
+                        if isinstance(node, ast.Name) and isinstance(node.ctx, ast.Store):
+                            self.assertNotIn(node.id, taken, name)
+
+    def test_is_stands_beside_none_true_and_false_alone(self):
+        for place, node in self.nodes(ast.Compare):
+            for operator, operand in zip(node.ops, node.comparators):
+                if isinstance(operator, (ast.Is, ast.IsNot)):
+                    self.assertIn(ast.unparse(operand), ("None", "True", "False"), place)
+
     def test_methods_that_are_called(self):
         own = [node.name for place, node in self.nodes(ast.FunctionDef)]
         for place, node in self.nodes(ast.Call):

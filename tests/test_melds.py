@@ -1,35 +1,13 @@
 import itertools
 import unittest
 
+from by_the_words import melds_by_the_words
 from meldhouse.errors import BadLaying
 from meldhouse.houses import House
 from meldhouse.melds import is_meld, melds, tiles_of
 
 FAR = 10 ** 30
 EVERY_HOUSE = [(most, colours) for most in range(3, 14) for colours in range(1, 5)]
-
-
-def runs_by_the_words(most, colours):
-    """Every run, found from its tiles: a stretch of 3 or more numbers of the house in one colour."""
-    return {
-        ("run", colour, first, last - first + 1)
-        for colour in range(colours)
-        for first, last in itertools.combinations(range(1, most + 1), 2)
-        if last - first >= 2
-    }
-
-
-def groups_by_the_words(most, colours):
-    return {
-        ("group", number, chosen)
-        for number in range(1, most + 1)
-        for size in [3, 4]
-        for chosen in itertools.combinations(range(colours), size)
-    }
-
-
-def melds_by_the_words(most, colours):
-    return sorted(runs_by_the_words(most, colours) | groups_by_the_words(most, colours))
 
 
 def runs_in_and_around(most, colours):
